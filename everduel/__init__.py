@@ -1,0 +1,1 @@
+"""Everduel: two hands lead a walk through rooms for ever."""
