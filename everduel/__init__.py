@@ -1,1 +1,1 @@
-"""Everduel: two hands lead a walk through rooms for ever."""
+"""Everduel: two hands lead a walk through rooms for ever, and statements of worlds told by such walks."""
